@@ -1,0 +1,1 @@
+"""Patchbough: patches for nested documents."""
