@@ -50,6 +50,18 @@ def refused_calls():
     return told
 
 
+def stand_by_themselves(case, function, things):
+    """Each row and table of what is told is changed alone, and nothing else of it is changed by that."""
+    expected = twin(function(*things))
+    for number in range(len(holders(expected))):
+        with case.subTest(function=function.__name__, things=things, number=number):
+            told = function(*things)
+            wanted = twin(expected)
+            spoil(holders(told)[number])
+            spoil(holders(wanted)[number])
+            case.assertTrue(alike(told, wanted))
+
+
 class Handed(unittest.TestCase):
     def test_what_is_handed_in_is_as_it_was(self):
         for function, things in calls() + plain_calls():
@@ -91,14 +103,7 @@ class Told(unittest.TestCase):
 
     def test_each_stands_by_itself(self):
         for function, things in calls():
-            expected = function(*things)
-            for number in range(len(holders(expected))):
-                with self.subTest(function=function.__name__, things=things, number=number):
-                    told = function(*things)
-                    wanted = twin(expected)
-                    spoil(holders(told)[number])
-                    spoil(holders(wanted)[number])
-                    self.assertTrue(alike(told, wanted))
+            stand_by_themselves(self, function, things)
 
     def test_what_was_handed_in_is_changed_behind_the_call(self):
         for function, things in calls():
@@ -147,14 +152,7 @@ class OneThingAtTwoPlaces(unittest.TestCase):
     def test_it_stands_by_itself_at_each_place_of_what_is_told(self):
         for shared in ([], {}, [1], {"a": 1}, [[], [2]], {"a": {"b": []}}):
             for function, things in self.calls_of(shared):
-                expected = twin(function(*things))
-                for number in range(len(holders(expected))):
-                    with self.subTest(function=function.__name__, things=things, number=number):
-                        told = function(*things)
-                        wanted = twin(expected)
-                        spoil(holders(told)[number])
-                        spoil(holders(wanted)[number])
-                        self.assertTrue(alike(told, wanted))
+                stand_by_themselves(self, function, things)
                 self.assertTrue(alike(things[0], self.doc_of(twin(shared))))
 
     def test_an_edit_reaches_one_place_alone(self):
