@@ -5,6 +5,8 @@ is no bound on how deep a document is. That is why every walk here keeps a
 list of the parts that wait, and no function calls itself.
 """
 
+from patchbough.walks import gathered
+
 LETTERS = "abcdefghijklmnopqrstuvwxyz"
 LONGEST_NAME = 8
 LONGEST_TEXT = 12
@@ -74,13 +76,32 @@ def inner_of(doc):
 
 def size_of(doc):
     """How many parts a document has."""
-    size = 0
-    waiting = [doc]
+    return len(gathered(doc, inner_of))
+
+
+def are_level(one, other):
+    """Whether two things are of one kind with the same steps into them, or are equal leaves."""
+    if isinstance(one, dict):
+        return isinstance(other, dict) and sorted(one) == sorted(other)
+    if isinstance(one, list):
+        return isinstance(other, list) and len(one) == len(other)
+    if isinstance(one, tuple):
+        return isinstance(other, tuple) and len(one) == len(other)
+    return one == other
+
+
+def are_equal(one, other):
+    """Whether two documents are equal, or two tuples of documents and tuples."""
+    waiting = [(one, other)]
     while waiting:
-        part = waiting.pop()
-        size = size + 1
-        waiting.extend(inner_of(part))
-    return size
+        pair = waiting.pop()
+        if not are_level(pair[0], pair[1]):
+            return False
+        if isinstance(pair[0], tuple):
+            waiting.extend(list(zip(pair[0], pair[1])))
+        else:
+            waiting.extend(list(zip(inner_of(pair[0]), inner_of(pair[1]))))
+    return True
 
 
 def outer_copy(doc):

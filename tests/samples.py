@@ -3,8 +3,6 @@
 Nothing here calls the program: what it tells is held against what is reckoned here.
 """
 
-import copy
-
 
 def nested():
     """Documents of all kinds, made anew at each call."""
@@ -43,7 +41,7 @@ def twin(thing):
         return tuple(twin(cell) for cell in thing)
     if isinstance(thing, dict):
         return {key: twin(value) for key, value in thing.items()}
-    return copy.copy(thing)
+    return thing
 
 
 def alike(one, other):
@@ -108,3 +106,53 @@ def rooms(doc):
         elif isinstance(part, dict):
             found.extend(path + (name,) for name in ("aa", "zz") if name not in part)
     return found
+
+
+def stand_by_themselves(case, function, things):
+    """Each row and table of what is told is changed alone, and nothing else of it is changed by that."""
+    expected = twin(function(*things))
+    for number in range(len(holders(expected))):
+        with case.subTest(function=function.__name__, things=things, number=number):
+            told = function(*things)
+            wanted = twin(expected)
+            spoil(holders(told)[number])
+            spoil(holders(wanted)[number])
+            case.assertTrue(alike(told, wanted))
+
+
+def stays_as_it_was(case, function, things):
+    """The call changes nothing that is handed in."""
+    before = twin(things)
+    with case.subTest(function=function.__name__, things=before):
+        function(*things)
+        case.assertTrue(alike(things, before))
+
+
+def is_the_askers_own(case, function, things):
+    """What is told, changed all through, changes nothing that was handed in, was told, or is told again."""
+    before = twin(things)
+    with case.subTest(function=function.__name__, things=before):
+        ahead = function(*things)
+        expected = twin(ahead)
+        spoil_all(function(*things))
+        case.assertTrue(alike(things, before))
+        case.assertTrue(alike(ahead, expected))
+        case.assertTrue(alike(function(*things), expected))
+
+
+def stays_behind_the_call(case, function, things):
+    """What was handed in, changed all through behind the call, changes nothing that was told."""
+    handed = twin(things)
+    with case.subTest(function=function.__name__, things=things):
+        told = function(*handed)
+        expected = twin(told)
+        spoil_all(handed)
+        case.assertTrue(alike(told, expected))
+
+
+def is_new_through_and_through(case, function, things):
+    """All that holds of a call that tells a list, a dict or a document, [0.2]."""
+    stays_as_it_was(case, function, things)
+    is_the_askers_own(case, function, things)
+    stand_by_themselves(case, function, things)
+    stays_behind_the_call(case, function, things)

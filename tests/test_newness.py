@@ -6,7 +6,8 @@ from patchbough.docs import copy_of, is_doc, is_name, kind_of, size_of
 from patchbough.edits import changed_at, put_at, taken_at
 from patchbough.errors import NoPart
 from patchbough.paths import begins, has_part, is_path, part_at, paths_of
-from samples import alike, holders, nested, rooms, routes, spoil, spoil_all, twin
+from samples import (alike, is_the_askers_own, nested, rooms, routes, spoil_all, stand_by_themselves, stays_as_it_was,
+                     stays_behind_the_call, twin)
 
 VALUES = ([[1], [1]], {"a": [], "b": {"a": []}})
 
@@ -50,25 +51,10 @@ def refused_calls():
     return told
 
 
-def stand_by_themselves(case, function, things):
-    """Each row and table of what is told is changed alone, and nothing else of it is changed by that."""
-    expected = twin(function(*things))
-    for number in range(len(holders(expected))):
-        with case.subTest(function=function.__name__, things=things, number=number):
-            told = function(*things)
-            wanted = twin(expected)
-            spoil(holders(told)[number])
-            spoil(holders(wanted)[number])
-            case.assertTrue(alike(told, wanted))
-
-
 class Handed(unittest.TestCase):
     def test_what_is_handed_in_is_as_it_was(self):
         for function, things in calls() + plain_calls():
-            before = twin(things)
-            with self.subTest(function=function.__name__, things=before):
-                function(*things)
-                self.assertTrue(alike(things, before))
+            stays_as_it_was(self, function, things)
 
     def test_a_refused_call_changes_nothing(self):
         for function, things in refused_calls():
@@ -92,14 +78,7 @@ class Handed(unittest.TestCase):
 class Told(unittest.TestCase):
     def test_each_row_and_table_of_what_is_told_is_changed(self):
         for function, things in calls():
-            before = twin(things)
-            with self.subTest(function=function.__name__, things=before):
-                ahead = function(*things)
-                expected = twin(ahead)
-                spoil_all(function(*things))
-                self.assertTrue(alike(things, before))
-                self.assertTrue(alike(ahead, expected))
-                self.assertTrue(alike(function(*things), expected))
+            is_the_askers_own(self, function, things)
 
     def test_each_stands_by_itself(self):
         for function, things in calls():
@@ -107,11 +86,7 @@ class Told(unittest.TestCase):
 
     def test_what_was_handed_in_is_changed_behind_the_call(self):
         for function, things in calls():
-            with self.subTest(function=function.__name__, things=things):
-                told = function(*things)
-                expected = twin(told)
-                spoil_all(things)
-                self.assertTrue(alike(told, expected))
+            stays_behind_the_call(self, function, things)
 
     def test_what_is_told_is_handed_in_again(self):
         for doc in nested():
