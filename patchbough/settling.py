@@ -1,7 +1,7 @@
 """Settled makes: the one form of all makes that make the same of each document that some asks let in."""
 
 from patchbough.asks import filled, found_asks, inner_just, inner_nodes, is_open
-from patchbough.docs import are_equal, copy_of, steps_of
+from patchbough.docs import are_equal, copy_of, outer_copy, steps_of
 from patchbough.makes import tells
 from patchbough.walks import folded
 
@@ -72,12 +72,17 @@ def told_out(makes, told, asks, narrower):
     path = makes[2]
     if path is None:
         return (makes[0], holder, None)
-    found = found_asks(asks, path)
     there = found_asks(narrower, path)
+    return (makes[0], grown(holder, path, found_asks(asks, path), there), path if is_open(there) else None)
+
+
+def grown(holder, path, found, there):
+    """The makes of a holder, with the parts at a path that the asks there tell and those found so far don't."""
+    told = outer_copy(holder)
     for step in steps_of(there[1]):
         if not tells(found, step):
-            add_at(holder, step, ("from", path + (step,)))
-    return (makes[0], holder, path if is_open(there) else None)
+            add_at(told, step, ("from", path + (step,)))
+    return told
 
 
 def add_at(holder, step, node):

@@ -140,3 +140,53 @@ def wild_rows(chance, doc, count):
         rows.append(chance.choice([row for row in found if row[0] == word]))
         stands.append(by_hand(rows[-1], stands[-1]))
     return rows
+
+
+def outcome(rows, doc):
+    """The document behind all rows, or None where one doesn't fit."""
+    try:
+        return all_by_hand(rows, doc)[-1]
+    except Misfit:
+        return None
+
+
+def neighbours(doc):
+    """Documents near this one: each part of it changed, each taken, and something put at each place."""
+    told = []
+    for path, part in routes(doc):
+        told.extend(by_hand(("change", path, value), doc) for value in (77, "near", [], {}, [part]))
+        if path != ():
+            told.append(by_hand(("take", path), doc))
+        if isinstance(part, list):
+            told.append(by_hand(("put", path + (len(part),), 78), doc))
+        if isinstance(part, dict) and "near" not in part:
+            told.append(by_hand(("put", path + ("near",), 78), doc))
+    return told
+
+
+def blind_path(chance, least):
+    return tuple(chance.choice(("a", "b", 0, 0, 1, 2)) for number in range(chance.randint(least, 3)))
+
+
+def blind_row(chance, words):
+    """A good row of one of these words, with no document in sight."""
+    word, path, to = chance.choice(words), blind_path(chance, 0), blind_path(chance, 1)
+    value = twin(chance.choice([5, 6, "x", [], {}, [5], {"a": 5}, [[], 5], {"a": 5, "b": []}]))
+    if word in ("put", "take", "move", "lacks"):
+        path, to = to, blind_path(chance, 1)
+    if word == "lacks":
+        path = path[:-1] + (chance.choice("ab"),)
+    if word in ("put", "change", "ask"):
+        return (word, path, value)
+    if word in ("move", "copy"):
+        return (word, path, path if word == "move" and is_lost(path, to) else to)
+    return (word, path, chance.choice(("row", "table"))) if word == "is" else (word, path)
+
+
+def blind_rows(chance, count):
+    """So many good rows, with three copies at most, that needn't fit anything."""
+    rows = []
+    for number in range(count):
+        copies = sum(row[0] == "copy" for row in rows)
+        rows.append(blind_row(chance, WORDS if copies < 3 else [word for word in WORDS if word != "copy"]))
+    return rows

@@ -8,8 +8,8 @@ from patchbough.backs import back_of, sealed
 from patchbough.docs import size_of
 from patchbough.errors import NoFit, NoPatch
 from patchbough.patches import Patch
-from reckoned import Misfit, all_by_hand, at, rows_about, wild_rows
-from samples import is_new_through_and_through, nested, routes, spoil_all, twin
+from reckoned import Misfit, all_by_hand, at, neighbours, rows_about, wild_rows
+from samples import is_new_through_and_through, nested, spoil_all, twin
 
 HAS = ("has", ())
 
@@ -36,20 +36,6 @@ def asking(rows, stages):
             told.append(("ask", row[1], at(doc, row[1])))
         told.append(row)
     return told
-
-
-def neighbours(doc):
-    """Documents near this one: each part of it changed, each taken, and something put at each place."""
-    for path, part in routes(doc):
-        for value in (77, "near", [], {}, [part]):
-            yield Patch([("change", path, value)]).applied(doc)
-        if path != ():
-            yield Patch([("take", path)]).applied(doc)
-    for path, part in routes(doc):
-        if isinstance(part, list):
-            yield Patch([("put", path + (len(part),), 78)]).applied(doc)
-        if isinstance(part, dict) and "near" not in part:
-            yield Patch([("put", path + ("near",), 78)]).applied(doc)
 
 
 class BackCase(Case):
