@@ -113,6 +113,14 @@ def outer_copy(doc):
     return doc
 
 
+def add_at(holder, step, thing):
+    """Adds a thing to a dict under its step, or to a list at its end, whatever its step is."""
+    if isinstance(holder, list):
+        holder.append(thing)
+    else:
+        holder[step] = thing
+
+
 def copy_of(doc):
     """A document equal to this one, new through and through."""
     told = outer_copy(doc)

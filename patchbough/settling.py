@@ -1,7 +1,7 @@
 """Settled makes: the one form of all makes that make the same of each document that some asks let in."""
 
 from patchbough.asks import filled, found_asks, inner_just, inner_nodes, is_open
-from patchbough.docs import are_equal, copy_of, outer_copy, steps_of
+from patchbough.docs import add_at, are_equal, copy_of, outer_copy, steps_of
 from patchbough.makes import tells
 from patchbough.walks import folded
 
@@ -83,11 +83,3 @@ def grown(holder, path, found, there):
         if not tells(found, step):
             add_at(told, step, ("from", path + (step,)))
     return told
-
-
-def add_at(holder, step, node):
-    """Adds what comes to a dict under its step, or to a list at its end: there it may stand at another place."""
-    if isinstance(holder, list):
-        holder.append(node)
-    else:
-        holder[step] = node

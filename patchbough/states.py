@@ -9,11 +9,11 @@ refused with NoFit.
 """
 
 from patchbough.asks import ANY, both_of, filled, found_asks, inner_nodes, is_open
-from patchbough.docs import are_equal, inner_of, kind_of, outer_copy, steps_of
+from patchbough.docs import add_at, are_equal, inner_of, kind_of, outer_copy, steps_of
 from patchbough.errors import NoFit
 from patchbough.makes import tells
 from patchbough.paths import holds
-from patchbough.settling import add_at, grown
+from patchbough.settling import grown
 from patchbough.walks import folded
 
 FIRST = (("any",), ("from", ()))

@@ -201,6 +201,7 @@ class Unlike(SameCase):
         for number in range(8):
             for one, other in (([], [("change", (), number)]), ([], [("ask", (), number)]),
                                ([("has", (0,))], [("change", (0,), number)]),
+                               ([("has", (0,))], [("ask", (0,), number)]),
                                ([("has", (1,))], [("ask", (0,), number)]),
                                ([("change", (0,), number)], [("has", (0,))])):
                 told = self.holds(one, other, self.DOCS)[0]
